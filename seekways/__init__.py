@@ -1,0 +1,1 @@
+"""Seekways: searches of many ways, and one judge."""

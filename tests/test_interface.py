@@ -1,0 +1,60 @@
+"""The interface: names, arguments, and the file in which each is defined."""
+
+import importlib
+import inspect
+import unittest
+
+from seekways.tasks import Task
+
+DOORS = {
+    "start": "(self)", "has": "(self, thing)", "nexts": "(self, standing)", "is_done": "(self, standing)",
+    "named": "(self, standing)", "bound": "(self, standing)", "cut": "(self, standing)", "turnings": "(self)",
+    "turned": "(self, number, standing)", "ends": "(self)", "ahead": "(self, standing)",
+}
+FUNCTIONS = {
+    "wholes": {"is_whole": "(thing)", "is_standing": "(thing)"},
+}
+TASKS = {
+    "told": {"Told": "(rows, *, turns=(), ends=None, heads=None)"},
+}
+
+
+def module(name):
+    return importlib.import_module("seekways." + name)
+
+
+class Interface(unittest.TestCase):
+    def check(self, listed):
+        for name, things in listed.items():
+            for word, arguments in things.items():
+                thing = getattr(module(name), word)
+                self.assertEqual(thing.__module__, "seekways." + name, word)
+                self.assertEqual(str(inspect.signature(thing)), arguments, word)
+
+    def test_functions(self):
+        self.check(FUNCTIONS)
+
+    def test_tasks(self):
+        self.check(TASKS)
+        for name, things in TASKS.items():
+            for word in things:
+                self.assertTrue(issubclass(getattr(module(name), word), Task), word)
+
+    def test_doors_stand_in_task_itself(self):
+        for word, arguments in DOORS.items():
+            self.assertEqual(str(inspect.signature(vars(Task)[word])), arguments, word)
+
+    def test_every_task_has_the_doors_with_the_same_arguments(self):
+        for name, things in TASKS.items():
+            for word in things:
+                for door, arguments in DOORS.items():
+                    made = getattr(getattr(module(name), word), door)
+                    self.assertEqual(str(inspect.signature(made)), arguments, (word, door))
+
+    def test_told_has_its_equality_length_and_text_itself(self):
+        for word in ("__eq__", "__len__", "__str__"):
+            self.assertIn(word, vars(module("told").Told))
+
+
+if __name__ == "__main__":
+    unittest.main()
