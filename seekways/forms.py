@@ -1,5 +1,6 @@
 """Forms of what is handed in, looked at before a task is made of it."""
 
+from seekways.errors import BadTask
 from seekways.wholes import is_whole
 
 MOST_COST = 1000
@@ -43,6 +44,18 @@ def are_rising(numbers):
     return all([low < high for low, high in zip(numbers, numbers[1:])])
 
 
+def are_rising_rows(thing, most):
+    """Whether a thing is a tuple of at most so many tuples of rising numbers from 0 on."""
+    if not is_tuple_of(thing, 0, most):
+        return False
+    return all([are_numbers(row, 0) and are_rising(row) for row in thing])
+
+
+def are_turns(thing, low):
+    """Whether a thing is a tuple of turns, each of whole numbers from low on."""
+    return is_tuple_of(thing, 0, MOST_TURNS) and all([are_numbers(turn, low) for turn in thing])
+
+
 def is_pair(thing):
     """Whether a thing is a pair (cost, number), the number any from 0 on."""
     return is_tuple_of(thing, 2, 2) and is_between(thing[0], 0, MOST_COST) and is_from(thing[1], 0)
@@ -61,3 +74,9 @@ def are_pairs_within(pairs, many):
 def to_standings(pairs):
     """Pairs (cost, number) as pairs (cost, standing)."""
     return tuple([(cost, (number,)) for cost, number in pairs])
+
+
+def demand(holds, name):
+    """Refuse what was handed in by this name, where it isn't as told."""
+    if not holds:
+        raise BadTask((name,))

@@ -56,8 +56,8 @@ def are_ends(ends, many):
 
 def are_heads(heads, ends, many):
     """Whether a thing tells, beside these ends, what is ahead of each of so many rows."""
-    if ends is None or heads is None:
-        return ends is None and heads is None
+    if ends is None:
+        return heads is None
     if not is_tuple_of(heads, many, many):
         return False
     return all([are_pairs(head, MOST_HEADS) and are_pairs_within(head, many) for head in heads])

@@ -13,9 +13,16 @@ DOORS = {
 }
 FUNCTIONS = {
     "wholes": {"is_whole": "(thing)", "is_standing": "(thing)"},
+    "looks": {
+        "label": "(task, word, standing)", "look": "(task, standing)",
+        "look_alike": "(task, word, one, other)", "look_ahead": "(task, standing)",
+    },
 }
 TASKS = {
     "told": {"Told": "(rows, *, turns=(), ends=None, heads=None)"},
+    "boards": {"Board": "(cells, colours, groups, *, turns=())"},
+    "nets": {"Net": "(first, ways, goals, *, guesses=None, turns=())"},
+    "covers": {"Cover": "(many, rows)"},
 }
 
 
