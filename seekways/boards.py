@@ -1,6 +1,7 @@
 """Boards: cells to be coloured, so that no group has a colour twice."""
 
-from seekways.forms import are_numbers, are_rising_rows, are_turns, are_within, demand, is_between, is_tuple_of
+from seekways.forms import are_between, are_numbers, are_rising_rows, are_turns, are_within
+from seekways.forms import demand, is_between, is_tuple_of
 from seekways.tasks import Task
 
 MOST_CELLS = 9
@@ -32,7 +33,7 @@ class Board(Task):
     def has(self, thing):
         """Whether a thing, whatever it is, has a colour or 0 for each cell."""
         many = len(self.cells)
-        return is_tuple_of(thing, many, many) and all([is_between(colour, 0, self.colours) for colour in thing])
+        return is_tuple_of(thing, many, many) and are_between(thing, 0, self.colours)
 
     def nexts(self, standing):
         """The first empty cell with each colour that is free there."""

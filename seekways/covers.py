@@ -1,6 +1,6 @@
 """Covers: numbers to be covered by rows."""
 
-from seekways.forms import are_rising_rows, are_within, demand, is_between, is_tuple_of
+from seekways.forms import are_between, are_rising_rows, are_within, demand, is_between, is_tuple_of
 from seekways.tasks import Task
 
 MOST_NUMBERS = 10
@@ -33,7 +33,7 @@ class Cover(Task):
 
     def has(self, thing):
         """Whether a thing, whatever it is, has 0 or 1 for each number."""
-        return is_tuple_of(thing, self.many, self.many) and all([is_between(left, 0, 1) for left in thing])
+        return is_tuple_of(thing, self.many, self.many) and are_between(thing, 0, 1)
 
     def nexts(self, standing):
         """The least number still to be covered, by each row that has it."""

@@ -1,7 +1,7 @@
-"""Forms of what is handed in, looked at before a task is made of it."""
+"""Forms of what is handed in, looked at before anything is made of it."""
 
 from seekways.errors import BadTask
-from seekways.wholes import is_whole
+from seekways.wholes import NEVER, is_whole
 
 MOST_COST = 1000
 MOST_BOUND = 100000
@@ -17,6 +17,16 @@ def is_from(thing, low):
 def is_between(thing, low, high):
     """Whether a thing is a whole number from low to high."""
     return is_whole(thing) and low <= thing <= high
+
+
+def are_between(things, low, high):
+    """Whether all things are whole numbers from low to high."""
+    return all([is_between(thing, low, high) for thing in things])
+
+
+def is_worth(thing):
+    """Whether a thing is a whole number from 0 on, or NEVER."""
+    return is_from(thing, NEVER)
 
 
 def is_truth(thing):

@@ -1,7 +1,7 @@
 """Nets: places, ways between them, and goals among them."""
 
-from seekways.forms import MOST_BOUND, MOST_NEXTS, are_numbers, are_pairs, are_pairs_within, are_rising
-from seekways.forms import are_turns, are_within, demand, is_between, is_from, is_tuple_of, to_standings
+from seekways.forms import MOST_BOUND, MOST_NEXTS, are_between, are_numbers, are_pairs, are_pairs_within
+from seekways.forms import are_rising, are_turns, are_within, demand, is_from, is_tuple_of, to_standings
 from seekways.tasks import Task
 from seekways.wholes import is_standing
 
@@ -17,7 +17,7 @@ def are_guesses(guesses):
     """Whether a thing is None or a tuple of bounds."""
     if guesses is None:
         return True
-    return isinstance(guesses, tuple) and all([is_between(guess, 0, MOST_BOUND) for guess in guesses])
+    return isinstance(guesses, tuple) and are_between(guesses, 0, MOST_BOUND)
 
 
 class Net(Task):

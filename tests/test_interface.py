@@ -17,12 +17,20 @@ FUNCTIONS = {
         "label": "(task, word, standing)", "look": "(task, standing)",
         "look_alike": "(task, word, one, other)", "look_ahead": "(task, standing)",
     },
+    "rests": {"told_of": "(task)"},
+    "answers": {
+        "is_answer": "(task, thing)", "cost_of": "(task, steps)", "way_of": "(task, steps)",
+        "plus": "(cost, worth)", "at_most": "(worth, other)",
+    },
 }
 TASKS = {
     "told": {"Told": "(rows, *, turns=(), ends=None, heads=None)"},
     "boards": {"Board": "(cells, colours, groups, *, turns=())"},
     "nets": {"Net": "(first, ways, goals, *, guesses=None, turns=())"},
     "covers": {"Cover": "(many, rows)"},
+    "rooms": {"Rooms": "(sizes, rooms, space)"},
+    "orders": {"Orders": "(jobs)"},
+    "rests": {"Rest": "(task, standing)"},
 }
 
 
@@ -57,6 +65,10 @@ class Interface(unittest.TestCase):
                 for door, arguments in DOORS.items():
                     made = getattr(getattr(module(name), word), door)
                     self.assertEqual(str(inspect.signature(made)), arguments, (word, door))
+
+    def test_a_rest_has_every_door_itself(self):
+        for door in DOORS:
+            self.assertIn(door, vars(module("rests").Rest))
 
     def test_told_has_its_equality_length_and_text_itself(self):
         for word in ("__eq__", "__len__", "__str__"):

@@ -1,13 +1,18 @@
-"""Which sayings boards, covers and nets keep, at all standings that come from the start."""
+"""Which sayings given tasks, their rests and told copies keep, at all standings that come from the start."""
 
 import itertools
 import unittest
 
 from seekways.boards import Board
 from seekways.covers import Cover
+from seekways.errors import TooWide
 from seekways.looks import label, look, look_ahead, look_alike
 from seekways.nets import Net
+from seekways.orders import Orders
+from seekways.rests import Rest, told_of
+from seekways.rooms import Rooms
 from tests.helpers import Watched, all_from_start
+from tests.samples import kept
 
 
 def boards():
@@ -38,6 +43,38 @@ def nets():
             yield Net(0, ways, goals)
 
 
+def rooms():
+    for sizes in itertools.chain.from_iterable(itertools.product((1, 2, 3), repeat=many) for many in (1, 2, 3)):
+        for many, space in ((1, 1), (1, 4), (2, 2), (2, 3), (3, 3), (2, 99)):
+            yield Rooms(sizes, many, space)
+    yield Rooms((3, 5, 2, 4, 1), 3, 6)
+    yield Rooms((2, 1, 2, 1, 2), 4, 3)
+    yield Rooms((7, 1, 99), 2, 50)
+
+
+def orders():
+    jobs = ((1, 0), (2, 3), (20, 120), (3, 2))
+    for many in (1, 2, 3):
+        for chosen in itertools.product(jobs, repeat=many):
+            yield Orders(chosen)
+    yield Orders(((20, 0),) * 5)
+    yield Orders(((3, 9), (8, 8), (1, 0), (5, 30), (2, 2)))
+
+
+def rests(tasks):
+    for task in tasks:
+        for standing in all_from_start(task)[::3]:
+            yield Rest(task, standing)
+
+
+def copies(tasks):
+    for task in tasks:
+        try:
+            yield told_of(task)
+        except TooWide:
+            pass
+
+
 def pairs_of_one_label(task, word, standings):
     labels = {}
     for standing in standings:
@@ -64,6 +101,30 @@ class Kept(unittest.TestCase):
 
     def test_covers(self):
         self.check(covers(), ("standing", "name", "turn"))
+
+    def test_samples(self):
+        self.check(kept(), ("standing", "name", "turn"))
+
+    def test_rooms(self):
+        self.check(rooms(), ("standing", "name", "turn"))
+
+    def test_orders(self):
+        self.check(orders(), ("standing", "name", "turn"))
+
+    def test_rests(self):
+        some = [*list(boards())[::9], *list(covers())[::20], *list(rooms())[::11], *list(orders())[::7]]
+        self.check(rests(some), ("standing", "name", "turn"))
+        self.check(rests(list(rests(some))[::5]), ("standing", "name", "turn"))
+
+    def test_told_copies(self):
+        some = [*list(boards())[::3], *list(covers())[::9], *rooms(), *orders()]
+        self.check(copies(some), ("standing", "name", "turn"))
+        self.check(copies(list(rests(some))[::5]), ("standing", "name", "turn"))
+
+    def test_rests_and_told_copies_of_nets_without_guesses(self):
+        some = list(nets())[::7]
+        self.check(rests(some), ("standing", "name", "turn"))
+        self.check(copies(some), ("standing", "name", "turn"))
 
     def test_nets_without_guesses(self):
         self.check(nets(), ("standing", "name", "turn"))
