@@ -1,5 +1,7 @@
 """Labels of standings, and looks at where a task breaks its sayings."""
 
+from seekways.errors import Broken
+
 
 def label(task, word, standing):
     """What a standing is called by "standing", "name" or "turn"."""
@@ -113,3 +115,10 @@ def comes_ahead(task, cost, one, standing):
     if not task.has(one) or task.is_done(one) or (cost, standing) not in task.nexts(one):
         return False
     return task.bound(one) <= cost + task.bound(standing)
+
+
+def refuse_break(told):
+    """Refuse with what a look told, where it told a break."""
+    if told is not None:
+        saying, standing, other = told
+        raise Broken(saying, standing, other)

@@ -22,6 +22,9 @@ FUNCTIONS = {
         "is_answer": "(task, thing)", "cost_of": "(task, steps)", "way_of": "(task, steps)",
         "plus": "(cost, worth)", "at_most": "(worth, other)",
     },
+    "backs": {"back_holds": "(task, thing)"},
+    "papers": {"paper_holds": "(task, thing)", "claim": "(paper)"},
+    "trees": {"tree_holds": "(task, thing, *, cuts=False)"},
 }
 TASKS = {
     "told": {"Told": "(rows, *, turns=(), ends=None, heads=None)"},
@@ -31,6 +34,14 @@ TASKS = {
     "rooms": {"Rooms": "(sizes, rooms, space)"},
     "orders": {"Orders": "(jobs)"},
     "rests": {"Rest": "(task, standing)"},
+}
+BOOK = {
+    "alike": "(self)", "known": "(self)", "standing_of": "(self, number)", "state_of": "(self, number)",
+    "number_of": "(self, standing)", "waiting": "(self)", "open_row": "(self, number)", "open_back": "(self)",
+    "base": "(self, number)", "lower": "(self, number)", "upper": "(self, number)", "reached": "(self, number)",
+    "bound": "(self)", "best": "(self)", "answer": "(self)", "paper": "(self)", "told": "(self)",
+    "progress": "(self)", "back_told": "(self)", "openings": "(self)", "is_broken": "(self)",
+    "hint": "(self, things)", "offer": "(self, steps)", "take": "(self, paper)",
 }
 
 
@@ -65,6 +76,11 @@ class Interface(unittest.TestCase):
                 for door, arguments in DOORS.items():
                     made = getattr(getattr(module(name), word), door)
                     self.assertEqual(str(inspect.signature(made)), arguments, (word, door))
+
+    def test_the_book_has_its_methods_itself(self):
+        self.check({"book": {"Book": "(task, *, alike='name', back=False)"}})
+        for word, arguments in BOOK.items():
+            self.assertEqual(str(inspect.signature(vars(module("book").Book)[word])), arguments, word)
 
     def test_a_rest_has_every_door_itself(self):
         for door in DOORS:

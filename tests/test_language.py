@@ -60,6 +60,30 @@ class Names(unittest.TestCase):
             for alias in node.names:
                 self.assertIn(alias.name, bound, (name, node.module))
 
+    def test_no_two_files_import_from_each_other(self):
+        needs = {name: set() for name in TREES}
+        for name, node in nodes(ast.ImportFrom):
+            needs[name].add(node.module.split(".")[1] + ".py")
+        while needs:
+            free = [name for name, files in needs.items() if not files & set(needs)]
+            self.assertNotEqual(free, [], needs)
+            for name in free:
+                del needs[name]
+
+    def test_no_name_in_a_function_is_that_of_a_class_or_an_import_of_its_file(self):
+        for name, tree in TREES.items():
+            taken = {alias.name for node in ast.walk(tree) if isinstance(node, ast.ImportFrom) for alias in node.names}
+            taken |= {node.name for node in ast.walk(tree) if isinstance(node, ast.ClassDef)}
+            used = {node.id for node in ast.walk(tree) if isinstance(node, ast.Name) and isinstance(node.ctx, ast.Store)}
+            used |= {node.arg for node in ast.walk(tree) if isinstance(node, ast.arg)}
+            self.assertEqual(taken & used, set(), name)
+
+    def test_no_name_is_one_that_may_not_be(self):
+        barred = {"register", "mro", "elements", "open", "input", "law", "version_info", "with_traceback", "add_note"}
+        names = {node.id for name, node in nodes(ast.Name)} | {node.attr for name, node in nodes(ast.Attribute)}
+        names |= {node.name for name, node in nodes(ast.FunctionDef, ast.ClassDef)}
+        self.assertEqual(names & barred, set())
+
     def test_what_is_imported_is_used(self):
         for name, node in nodes(ast.ImportFrom):
             read = {item.id for item in ast.walk(TREES[name]) if isinstance(item, ast.Name)}
@@ -97,6 +121,21 @@ class Expressions(unittest.TestCase):
             if isinstance(node.func, ast.Name) and node.func.id in TAKE_A_LIST:
                 for part in node.args:
                     self.assertNotIsInstance(part, ast.GeneratorExp, (name, node.lineno))
+
+    def test_errors_are_made_where_they_are_raised_and_caught_by_name(self):
+        own = {node.name for node in TREES["errors.py"].body if isinstance(node, ast.ClassDef)}
+        for name, node in nodes(ast.Raise):
+            if node.exc is not None:
+                self.assertIsInstance(node.exc, ast.Call, (name, node.lineno))
+                self.assertIn(node.exc.func.id, own, (name, node.lineno))
+        for name, node in nodes(ast.ExceptHandler):
+            self.assertIn(node.type.id, own, (name, node.lineno))
+
+    def test_no_set_is_stored_in_an_object_and_nothing_is_sorted_in_place(self):
+        for name, node in nodes(ast.Attribute):
+            self.assertNotIn(node.attr, ("sort", "format", "union", "difference"), (name, node.lineno))
+        for name, node in nodes(ast.Assign):
+            self.assertNotIsInstance(node.value, (ast.Set, ast.SetComp), (name, node.lineno))
 
     def test_no_float_no_division_no_global(self):
         self.assertEqual(nodes(ast.Div, ast.Global, ast.AsyncFunctionDef), [])
