@@ -25,6 +25,7 @@ FUNCTIONS = {
     "backs": {"back_holds": "(task, thing)"},
     "papers": {"paper_holds": "(task, thing)", "claim": "(paper)"},
     "trees": {"tree_holds": "(task, thing, *, cuts=False)"},
+    "picks": {"picked": "(book, word, limit)"},
 }
 TASKS = {
     "told": {"Told": "(rows, *, turns=(), ends=None, heads=None)"},
@@ -42,6 +43,21 @@ BOOK = {
     "bound": "(self)", "best": "(self)", "answer": "(self)", "paper": "(self)", "told": "(self)",
     "progress": "(self)", "back_told": "(self)", "openings": "(self)", "is_broken": "(self)",
     "hint": "(self, things)", "offer": "(self, steps)", "take": "(self, paper)",
+}
+CLASSES = {
+    "book": {"Book": ("(task, *, alike='name', back=False)", BOOK)},
+    "ways": {"Way": ("(task, word, *, alike='name')", {
+        "kind": "(self)", "book": "(self)", "step": "(self)", "go": "(self, steps)", "is_over": "(self)",
+        "limit": "(self)",
+    })},
+    "joined": {"Joined": ("(task, parts, *, alike='name')", {
+        "book": "(self)", "step": "(self)", "go": "(self, steps)", "is_over": "(self)", "turn": "(self)",
+        "limits": "(self)",
+    })},
+    "tries": {"Tries": ("(task, *, cuts=False)", {
+        "step": "(self)", "go": "(self, steps)", "is_over": "(self)", "leaves": "(self)", "answers": "(self)",
+        "shut": "(self)",
+    })},
 }
 
 
@@ -77,10 +93,13 @@ class Interface(unittest.TestCase):
                     made = getattr(getattr(module(name), word), door)
                     self.assertEqual(str(inspect.signature(made)), arguments, (word, door))
 
-    def test_the_book_has_its_methods_itself(self):
-        self.check({"book": {"Book": "(task, *, alike='name', back=False)"}})
-        for word, arguments in BOOK.items():
-            self.assertEqual(str(inspect.signature(vars(module("book").Book)[word])), arguments, word)
+    def test_each_class_has_its_methods_itself(self):
+        for name, things in CLASSES.items():
+            for word, (arguments, methods) in things.items():
+                self.check({name: {word: arguments}})
+                own = vars(getattr(module(name), word))
+                for method, parts in methods.items():
+                    self.assertEqual(str(inspect.signature(own[method])), parts, (word, method))
 
     def test_a_rest_has_every_door_itself(self):
         for door in DOORS:
