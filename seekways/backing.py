@@ -36,13 +36,16 @@ class Backing:
         """The standings that aren't settled, in the order in which they came."""
         return [standing for standing in self.marks if standing not in self.settled]
 
+    def nearest(self):
+        """The least standing that isn't settled, None where all are."""
+        # Of like ones, min tells the first.
+        return min(self.unsettled(), key=lambda one: self.marks[one], default=None)
+
     def settle(self):
         """Settle the least standing that isn't, and tell it; None where all are."""
-        left = self.unsettled()
-        if not left:
+        standing = self.nearest()
+        if standing is None:
             return None
-        # Of like ones, min tells the first.
-        standing = min(left, key=lambda one: self.marks[one])
         refuse_break(look(self.task, standing))
         refuse_break(look_ahead(self.task, standing))
         distance, steps = self.marks[standing]

@@ -88,6 +88,10 @@ class Book:
             self.forget_values()
         return standing
 
+    def next_back(self):
+        """The standing that a back step would settle, None where there is none."""
+        return None if self.backing is None else self.backing.nearest()
+
     def hint(self, things):
         """Open all rows that wait of these standings; tell how many."""
         refuse_break(self.fault)

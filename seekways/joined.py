@@ -68,3 +68,9 @@ class Joined:
     def go(self, steps):
         """Do so many steps, fewer where it is over then; tell how many."""
         return gone(self, steps)
+
+    def resume(self, limits, turn, used):
+        """Go on with these limits, at this turn."""
+        self.bars = limits
+        self.at = turn
+        self.used = used

@@ -47,3 +47,7 @@ class Way:
     def go(self, steps):
         """Do so many steps, fewer where it is over then; tell how many."""
         return gone(self, steps)
+
+    def resume(self, limit):
+        """Go on with this limit."""
+        self.bar = limit

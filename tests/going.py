@@ -5,7 +5,8 @@ from tests.reckoned import face
 
 # Nothing here is a number of steps.
 NO_STEPS = (
-    None, True, False, -1, -1000, 1001, 10 ** 6, "", "1", "5 steps", (), (1,), [], [3], {}, {1: 1}, ((1,), [2], {"a": None}),
+    None, True, False, -1, -1000, 1001, 10 ** 6, "", "1", "5 steps", (), (1,), [], [3], {}, {1: 1},
+    ((1,), [2], {"a": None}),
 )
 
 

@@ -26,6 +26,10 @@ FUNCTIONS = {
     "papers": {"paper_holds": "(task, thing)", "claim": "(paper)"},
     "trees": {"tree_holds": "(task, thing, *, cuts=False)"},
     "picks": {"picked": "(book, word, limit)"},
+    "local": {"led": "(task, numbers)"},
+    "writing": {"written": "(thing)", "read": "(task, thing)"},
+    "edits": {"edited": "(task, edit)", "carried": "(way, task)"},
+    "texts": {"task_text": "(told)", "read_task": "(text)"},
 }
 TASKS = {
     "told": {"Told": "(rows, *, turns=(), ends=None, heads=None)"},
@@ -58,6 +62,10 @@ CLASSES = {
         "step": "(self)", "go": "(self, steps)", "is_over": "(self)", "leaves": "(self)", "answers": "(self)",
         "shut": "(self)",
     })},
+    "local": {"Local": ("(task, numbers)", {
+        "step": "(self)", "go": "(self, steps)", "is_over": "(self)", "numbers": "(self)", "answer": "(self)",
+    })},
+    "desk": {"Desk": ("()", {"run": "(self, text)", "log": "(self)", "is_free": "(self)"})},
 }
 
 

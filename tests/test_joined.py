@@ -161,9 +161,12 @@ class Refused(unittest.TestCase):
         right = ("deep", 1)
         wrongs = [
             "deep", "deep 1", 0, right, [right], {right: 1}, (right,) * 5, (right, None), (right, "deep"), (right, ()),
-            (right, ("deep",)), (right, ("deep", 1, 1)), (["deep", 1],), (("deep", 0),), (("deep", 21),), (("deep", -1),),
-            (("deep", True),), (("deep", False),), (("deep", None),), (("deep", "1"),), (("deep", (1,)),), ((1, "deep"),),
-            (("ends", 1),), (right, ("ends", 1)), (("no", 1),), (("Deep", 1),), (("", 1),), ((None, 1),), ((["deep"], 1),),
+            (right, ("deep",)), (right, ("deep", 1, 1)), (["deep", 1],), (("deep", 0),), (("deep", 21),),
+            (("deep", -1),),
+            (("deep", True),), (("deep", False),), (("deep", None),), (("deep", "1"),), (("deep", (1,)),),
+            ((1, "deep"),),
+            (("ends", 1),), (right, ("ends", 1)), (("no", 1),), (("Deep", 1),), (("", 1),), ((None, 1),),
+            ((["deep"], 1),),
             ((("deep",), 1),), (({}, 1),), ((0, 1),), (("standing", 1),), (("deep", [1]),), (("deep", {}),),
         ]
         for parts in (*ODD, *wrongs):

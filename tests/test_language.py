@@ -137,6 +137,40 @@ class Expressions(unittest.TestCase):
         for name, node in nodes(ast.Assign):
             self.assertNotIsInstance(node.value, (ast.Set, ast.SetComp), (name, node.lineno))
 
+    def test_strings_have_no_percent_sign_and_no_barred_ending(self):
+        for name, node in nodes(ast.Constant):
+            if isinstance(node.value, str):
+                self.assertNotIn("%", node.value, (name, node.lineno))
+                self.assertFalse(node.value.endswith(("._", ".__")), (name, node.lineno))
+
+    def test_strings_within_f_strings(self):
+        for name, node in nodes(ast.JoinedStr):
+            row = (FOLDER / name).read_text(encoding="utf-8").split("\n")[node.lineno - 1]
+            self.assertEqual(node.lineno, node.end_lineno, (name, node.lineno))
+            inner = [one for part in node.values if isinstance(part, ast.FormattedValue) for one in ast.walk(part.value)]
+            self.assertFalse(any(isinstance(one, ast.JoinedStr) for one in inner), (name, node.lineno))
+            if any(isinstance(one, ast.Constant) and isinstance(one.value, str) for one in inner):
+                self.assertNotIn("\\", row, (name, node.lineno))
+                self.assertNotIn("#", row, (name, node.lineno))
+
+    def test_finally_puts_down_plain_things_alone(self):
+        methods, stored = methods_and_attributes()
+        self.assertNotIn("append", methods | stored)
+        for name, node in nodes(ast.Try):
+            for item in node.finalbody:
+                if isinstance(item, ast.Expr):
+                    self.assertEqual(item.value.func.attr, "append", (name, item.lineno))
+                else:
+                    self.assertIsInstance(item, ast.Assign, (name, item.lineno))
+                    self.assertIsInstance(item.value, (ast.Constant, ast.Name, ast.Attribute), (name, item.lineno))
+
+    def test_attributes_that_are_read_are_stored_by_some_class(self):
+        methods, stored = methods_and_attributes()
+        called = {id(node.func) for name, node in nodes(ast.Call)}
+        for name, node in nodes(ast.Attribute):
+            if isinstance(node.ctx, ast.Load) and id(node) not in called:
+                self.assertIn(node.attr, stored, (name, node.lineno))
+
     def test_no_float_no_division_no_global(self):
         self.assertEqual(nodes(ast.Div, ast.Global, ast.AsyncFunctionDef), [])
         for name, node in nodes(ast.Constant):

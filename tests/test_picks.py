@@ -113,7 +113,8 @@ class ByHand(unittest.TestCase):
         book.open_back()
         self.assertEqual(book.told(), ("never",))
         self.check(book, (
-            ("bounds", None, (1, None)), ("branch", None, (2, None)), ("deepen", 7, (2, NEVER)), ("deep", None, (2, None)),
+            ("bounds", None, (1, None)), ("branch", None, (2, None)), ("deepen", 7, (2, NEVER)),
+            ("deep", None, (2, None)),
             ("costs", None, (1, None)),
         ))
 
@@ -126,7 +127,8 @@ class ByHand(unittest.TestCase):
             book.open_back()
         self.assertEqual((book.base(1), book.base(2)), (NEVER, 1))
         self.check(book, (
-            ("bounds", None, (2, None)), ("deepen", 0, (2, 6)), ("branch", None, (None, None)), ("costs", None, (1, None)),
+            ("bounds", None, (2, None)), ("deepen", 0, (2, 6)), ("branch", None, (None, None)),
+            ("costs", None, (1, None)),
         ))
 
 
@@ -155,7 +157,8 @@ class Swept(unittest.TestCase):
         return many
 
     def test_tasks_of_each_kind(self):
-        tasks = [TOLD, ENDED, NET, FORK, *[kept_told(seed) for seed in range(60)], *[given_task(seed) for seed in range(60)]]
+        tasks = [TOLD, ENDED, NET, FORK, *[kept_told(seed) for seed in range(60)],
+                 *[given_task(seed) for seed in range(60)]]
         many = sum(self.go(task, seed) for seed, task in enumerate(tasks))
         self.assertGreater(many, 10000)
 

@@ -337,6 +337,26 @@ class Many(unittest.TestCase):
         for many in (61, 70, 900):
             self.check_refused(Tries(Chain(many)), 60)
 
+    def test_a_line_without_an_end(self):
+        self.check_refused(Tries(Chain(None)), 60)
+
+    def test_what_is_done_after_more_than_60_steps_is_no_answer(self):
+        class Long(Comb):
+            """As a comb, but its last row begins a line that is done after too many steps."""
+
+            def nexts(self, standing):
+                if standing[1] == 0 and standing[0] >= self.height:
+                    return ((1, (standing[0] + 1, 0)),)
+                return Comb.nexts(self, standing)
+
+            def is_done(self, standing):
+                return standing[0] == 100 or Comb.is_done(self, standing)
+
+        tries = Tries(Long((1, 2), width=3, height=50))
+        tries.go(100)
+        self.assertEqual(len(tries.answers()), 100)
+        self.check_refused(tries, 60)
+
     def test_a_break_goes_ahead_of_60_steps(self):
         for many, wrong in ((61, 0), (61, 59), (61, 60), (70, 65), (900, 899)):
             tries = Tries(Chain(many, wrong))

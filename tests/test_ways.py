@@ -190,7 +190,8 @@ class Ends(unittest.TestCase):
 
     def test_by_turns(self):
         way = self.made()
-        self.assertEqual([way.step() for again in range(4)], [("back", (4,)), ("opened", 0), ("back", (3,)), ("opened", 1)])
+        self.assertEqual([way.step() for again in range(4)], [("back", (4,)), ("opened", 0), ("back", (3,)),
+                                                              ("opened", 1)])
         # What is settled now has radius 1: 5 stands in the back, too, and is settled ahead of 2.
         self.assertEqual([way.step() for again in range(3)], [("back", (5,)), ("opened", 2), ("over",)])
         self.assertEqual(way.book().answer(), (0, 0, 0, 0))
@@ -215,7 +216,8 @@ class Ends(unittest.TestCase):
     def test_rows_by_costs(self):
         task = Net(0, (((5, 1), (1, 2), (1, 3)), ((9, 4),), ((9, 4),), ((9, 4),), ()), (4,))
         way = Way(task, "ends", alike="standing")
-        self.assertEqual([way.step() for again in range(4)], [("back", (4,)), ("opened", 0), ("back", (1,)), ("opened", 2)])
+        self.assertEqual([way.step() for again in range(4)], [("back", (4,)), ("opened", 0), ("back", (1,)),
+                                                              ("opened", 2)])
 
     def test_where_one_of_both_cannot_be_done_the_other_is(self):
         book = Book(self.LINE, alike="standing", back=True)

@@ -11,7 +11,8 @@ from seekways.wholes import WORDS
 from tests.helpers import ODD, Watched, row
 from tests.samples import ENDED, NET, TOLD, samples
 
-NO_WORDS = (*ODD, 0, 1, 7, "Deep", "deep ", " deep", "deeper", "dee", "end", ("deep",), ["deep"], {"deep": 1}, "standing")
+NO_WORDS = (*ODD, 0, 1, 7, "Deep", "deep ", " deep", "deeper", "dee", "end", ("deep",), ["deep"], {"deep": 1},
+            "standing")
 NO_ALIKES = (*ODD, 0, 1, "Name", "name ", "names", "deep", "ends", ("name",), ["standing"], {"turn": 1})
 
 
